@@ -1,0 +1,1 @@
+"""Blocks of boxes set on pages: paragraphs and displays broken into lines, lines into pages."""
