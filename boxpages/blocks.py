@@ -1,4 +1,4 @@
-"""Blocks told by numbers: their forms, their ranges, and how many items they have.
+"""Blocks told by numbers: their forms, their ranges, and their items.
 
 A block is kept as the numbers that tell it: before, stretch, shrink, cost, which form follows, and that form.
 """
@@ -19,15 +19,25 @@ DISPLAY = 1
 
 BEFORE_PLACE = 0
 BEFORE_SHRINK_PLACE = 2
+BLOCK_COST_PLACE = 3
 
 FIRST_INDENT_PLACE = 5
 ITEMS_PLACE = 6
 ITEM_SIZE = 7
+WIDTH_PLACE = 0
+HEIGHT_PLACE = 1
+DEPTH_PLACE = 2
 SPACE_PLACE = 3
 SPACE_SHRINK_PLACE = 5
+ITEM_COST_PLACE = 6
 
 DISPLAY_PLACE = 5
 DISPLAY_SIZE = 4
+WAY_PLACE = 5
+DISPLAY_WIDTH_PLACE = 6
+
+LEFT = 0
+CENTRED = 1
 
 # before, stretch, shrink, cost
 HEAD_RANGES = ((0, 1000000), (0, 1000000), (0, 1000000), (-1, 1000000))
@@ -53,9 +63,22 @@ def is_paragraph(block):
     return block[FORM_PLACE] == PARAGRAPH
 
 
+def items_between(block, first, last):
+    """The items of a paragraph from the first to the last one, seven numbers each."""
+    start = ITEMS_PLACE + first * ITEM_SIZE
+    end = ITEMS_PLACE + (last + 1) * ITEM_SIZE
+    return [block[place:place + ITEM_SIZE] for place in range(start, end, ITEM_SIZE)]
+
+
 def items_of(block):
-    """The items of a paragraph, seven numbers each."""
-    return [block[place:place + ITEM_SIZE] for place in range(ITEMS_PLACE, len(block), ITEM_SIZE)]
+    return items_between(block, 0, item_count(block) - 1)
+
+
+def sizes_of(block):
+    """The width, height and depth of each item, a display being one item."""
+    if is_paragraph(block):
+        return [item[:SPACE_PLACE] for item in items_of(block)]
+    return [block[DISPLAY_WIDTH_PLACE:]]
 
 
 def item_count(block):

@@ -58,6 +58,37 @@ def answer_block(document, reader):
     return document.block(reader.number())
 
 
+def answer_lines(document, reader):
+    return document.lines()
+
+
+def answer_pages(document, reader):
+    return document.pages()
+
+
+def answer_worth(document, reader):
+    return document.worth()
+
+
+def answer_place(document, reader):
+    i = reader.number()
+    return document.place(i, reader.number())
+
+
+def answer_places(document, reader):
+    return document.places(reader.number())
+
+
+def answer_at(document, reader):
+    page = reader.number()
+    x = reader.number()
+    return document.at(page, x, reader.number())
+
+
+def answer_count(document, reader):
+    return document.count()
+
+
 # What answers a call stands at the call's own number.
 CALLS = (
     answer_settings,
@@ -67,6 +98,13 @@ CALLS = (
     answer_take,
     answer_move,
     answer_block,
+    answer_lines,
+    answer_pages,
+    answer_worth,
+    answer_place,
+    answer_places,
+    answer_at,
+    answer_count,
 )
 
 

@@ -1,20 +1,13 @@
 """The object that the calls are made on: it holds the settings and the blocks."""
 
-from boxpages.blocks import block_refusal
+from boxpages.blocks import block_refusal, item_total
+from boxpages.layout import Layout
 from boxpages.limits import DONE, all_within
+from boxpages.settings import SETTINGS_AT_FIRST, SETTING_RANGES
 
 BAD_SETTING = -4
 NO_BLOCK = -5
-
-# measure, indent, lead, gap, page, orphan
-SETTING_RANGES = (
-    (0, 100000000),
-    (0, 100000000),
-    (0, 1000000),
-    (0, 1000000),
-    (0, 100000000),
-    (-1, 1000000),
-)
+NO_ITEM = -6
 
 
 def without(blocks, i):
@@ -29,13 +22,18 @@ class Document:
     """Each call answers a list of numbers; a refusal is its number alone, and nothing is changed then."""
 
     def __init__(self):
-        self.settings = (0, 0, 0, 0, 0, 0)
-        self.blocks = []
+        self.hold(SETTINGS_AT_FIRST, [])
+
+    def hold(self, settings, blocks):
+        self.settings = settings
+        self.blocks = blocks
+        # Setting the blocks takes long, so it waits until it is asked for and is kept until something changes.
+        self.layout = None
 
     def settle(self, numbers):
         if not all_within(numbers, SETTING_RANGES):
             return [BAD_SETTING]
-        self.settings = tuple(numbers)
+        self.hold(tuple(numbers), self.blocks)
         return [DONE]
 
     def add(self, numbers):
@@ -55,13 +53,13 @@ class Document:
     def take(self, i):
         if not self.has_block(i):
             return [NO_BLOCK]
-        self.blocks = without(self.blocks, i)
+        self.hold(self.settings, without(self.blocks, i))
         return [DONE]
 
     def move(self, i, j):
         if not self.has_block(i) or not self.has_block(j):
             return [NO_BLOCK]
-        self.blocks = with_block(without(self.blocks, i), j, self.blocks[i])
+        self.hold(self.settings, with_block(without(self.blocks, i), j, self.blocks[i]))
         return [DONE]
 
     def block(self, i):
@@ -69,13 +67,45 @@ class Document:
             return [NO_BLOCK]
         return [DONE] + list(self.blocks[i])
 
+    def lines(self):
+        return [DONE] + self.laid_out().told_lines()
+
+    def pages(self):
+        return [DONE] + self.laid_out().told_pages()
+
+    def worth(self):
+        return [DONE] + self.laid_out().told_worth()
+
+    def place(self, i, k):
+        if not self.has_block(i):
+            return [NO_BLOCK]
+        if not self.laid_out().has_item(i, k):
+            return [NO_ITEM]
+        return [DONE] + self.laid_out().told_place(i, k)
+
+    def places(self, i):
+        if not self.has_block(i):
+            return [NO_BLOCK]
+        return [DONE] + self.laid_out().told_places(i)
+
+    def at(self, page, x, y):
+        return [DONE] + self.laid_out().told_at(page, x, y)
+
+    def count(self):
+        return [DONE, len(self.blocks), item_total(self.blocks)]
+
     def has_block(self, i):
         return 0 <= i < len(self.blocks)
+
+    def laid_out(self):
+        if self.layout is None:
+            self.layout = Layout(self.settings, self.blocks)
+        return self.layout
 
     def place_among(self, others, i, numbers):
         """The blocks become the others, with this one before the one at i, unless it is refused beside them."""
         refusal = block_refusal(numbers, others)
         if refusal != DONE:
             return [refusal]
-        self.blocks = with_block(others, i, tuple(numbers))
+        self.hold(self.settings, with_block(others, i, tuple(numbers)))
         return [DONE]

@@ -2,7 +2,7 @@
 
 from boxpages.desk import answers
 
-SETTINGS, ADD, PUT, CHANGE, TAKE, MOVE, BLOCK = range(7)
+SETTINGS, ADD, PUT, CHANGE, TAKE, MOVE, BLOCK, LINES, PAGES, WORTH, PLACE, PLACES, AT, COUNT = range(14)
 
 FAR = 10 ** 18
 ITEM = (40, 7, 3, 5, 0, 0, 0)
@@ -37,8 +37,41 @@ def block(i):
     return [BLOCK, i]
 
 
+def lines():
+    return [LINES]
+
+
+def pages():
+    return [PAGES]
+
+
+def worth():
+    return [WORTH]
+
+
+def place(i, k):
+    return [PLACE, i, k]
+
+
+def places(i):
+    return [PLACES, i]
+
+
+def at(page, x, y):
+    return [AT, page, x, y]
+
+
+def count():
+    return [COUNT]
+
+
 def paragraph(count=1, head=(6, 0, 0, 0), indent=10, item=ITEM):
     return [*head, 0, indent, *(list(item) * count)]
+
+
+def row(*items, head=(6, 0, 0, 0), indent=10):
+    """A paragraph of these very items."""
+    return [*head, 0, indent, *join(items)]
 
 
 def display(width=30, head=(4, 0, 0, 0), way=1, height=9, depth=3):
@@ -67,6 +100,17 @@ def parted(numbers):
 def run(*calls):
     """What each of the calls answers, one list a call."""
     return parted(answers(join(calls)))
+
+
+def answer(*calls):
+    """What the last of the calls answers."""
+    return run(*calls)[-1]
+
+
+def in_groups(numbers, size):
+    """What is told behind the 0 of an answer, as many numbers a group."""
+    assert numbers[0] == 0 and len(numbers) % size == 1 % size
+    return [tuple(numbers[place:place + size]) for place in range(1, len(numbers), size)]
 
 
 def blocks_after(*calls):

@@ -1,10 +1,14 @@
 """The interface: how calls stand in the list, how answers stand behind one another, and what is left alone."""
 
 import random
+import sys
 import unittest
 
 from boxpages.desk import answers
-from tests.telling import OK, add, block, change, display, join, move, paragraph, parted, put, run, settings, take
+from tests.telling import (
+    OK, add, at, block, change, count, display, join, lines, move, pages, paragraph, parted, place, places, put, run,
+    settings, take, worth,
+)
 
 CHANGERS = (
     "__delitem__", "__iadd__", "__imul__", "__setitem__",
@@ -34,7 +38,17 @@ MIXED = join([
     change(0, []),
     move(0, 2),
     block(2),
+    lines(),
+    pages(),
+    worth(),
+    place(2, 1),
+    place(2, 2),
+    places(2),
+    places(3),
+    at(0, 50, -5),
+    count(),
     take(0),
+    lines(),
     block(2),
     block(1),
 ])
@@ -52,6 +66,21 @@ class Layout(unittest.TestCase):
         self.assertEqual(answers([4, 0]), [1, -5])
         self.assertEqual(answers([5, 0, 0]), [1, -5])
         self.assertEqual(answers([6, 0]), [1, -5])
+        self.assertEqual(answers([7]), [1, 0])
+        self.assertEqual(answers([8]), [1, 0])
+        self.assertEqual(answers([9]), [6, 0, 0, 0, 0, 0, 0])
+        self.assertEqual(answers([10, 0, 0]), [1, -5])
+        self.assertEqual(answers([11, 0]), [1, -5])
+        self.assertEqual(answers([12, 0, 0, 0]), [1, 0])
+        self.assertEqual(answers([13]), [3, 0, 0, 0])
+
+    def test_questions_of_one_display(self):
+        """Its x is 35, its baseline at -9, its box goes from 35 to 65 and from -12 to 0."""
+        start = [0, 100, 0, 12, 2, 40, 50, 1, 9, 4, 0, 0, 0, 1, 1, 30, 9, 3]
+        asked = [7, 8, 9, 10, 0, 0, 10, 0, 1, 11, 0, 11, 1, 12, 0, 35, -12, 12, 1, 35, -12, 13]
+        wanted = [7, 0, 0, 0, 0, 9, 3, 0, 5, 0, 0, 0, 28, 0, 6, 0, 0, 0, 0, 1, 1, 4, 0, 0, 35, -9, 1, -6]
+        wanted += [4, 0, 0, 35, -9, 1, -5, 3, 0, 0, 0, 1, 0, 3, 0, 1, 0]
+        self.assertEqual(answers(start + asked), [1, 0, 1, 0] + wanted)
 
     def test_each_answer_stands_behind_the_one_before(self):
         first = [6, 0, 0, 0, 0, 10, 40, 7, 3, 5, 0, 0, 0]
@@ -101,6 +130,29 @@ class LeftAlone(unittest.TestCase):
     def test_every_list_has_a_new_object(self):
         answers(add(display()))
         self.assertEqual(run(block(0)), [[-5]])
+
+
+class Loops(unittest.TestCase):
+    def test_nothing_nests_deeper_for_longer_rows(self):
+        """The largest cases are gone through with few calls within one another."""
+        tall = join([add(paragraph(600)), *[lines(), pages(), worth(), places(0), at(0, 0, 0)] * 2])
+        many = join([*[add(display())] * 60, *[lines(), pages(), worth(), places(59), at(0, 0, 0)] * 20])
+        wanted = [answers(tall), answers(many)]
+        before = sys.getrecursionlimit()
+        sys.setrecursionlimit(self.depth() + 40)
+        try:
+            told = [answers(tall), answers(many)]
+        finally:
+            sys.setrecursionlimit(before)
+        self.assertEqual(told, wanted)
+
+    def depth(self):
+        frame = sys._getframe()
+        found = 0
+        while frame is not None:
+            frame = frame.f_back
+            found += 1
+        return found
 
 
 class Model:

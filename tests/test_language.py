@@ -125,6 +125,60 @@ class Language(unittest.TestCase):
             if isinstance(node, ast.Attribute):
                 self.assertIn(node.attr, defined | OWN_METHODS, (name, node.lineno))
 
+    def test_no_name_is_a_method_and_a_value(self):
+        methods = set()
+        for name, node in nodes():
+            if isinstance(node, ast.ClassDef):
+                methods.update(part.name for part in node.body if isinstance(part, ast.FunctionDef))
+        for name, node in nodes():
+            if isinstance(node, ast.Attribute) and isinstance(node.ctx, ast.Store):
+                self.assertNotIn(node.attr, methods, (name, node.lineno))
+
+    def test_locals_are_not_called_like_imports_or_classes(self):
+        for path, tree in trees().items():
+            taken = {part.name for node in tree.body if isinstance(node, ast.ImportFrom) for part in node.names}
+            taken |= {node.name for node in tree.body if isinstance(node, ast.ClassDef)}
+            for function in ast.walk(tree):
+                if isinstance(function, ast.FunctionDef):
+                    for node in ast.walk(function):
+                        if not isinstance(node, ast.Attribute):
+                            self.assertFalse(taken & set(bound_names(node)), (path.name, function.name))
+
+    def test_imports_come_from_the_very_file_and_never_in_a_ring(self):
+        drawn, defined = {}, {}
+        for path, tree in trees().items():
+            imports = [node for node in tree.body if isinstance(node, ast.ImportFrom)]
+            drawn[path.stem] = {node.module.split(".")[1] for node in imports}
+            named = {node.name for node in tree.body if isinstance(node, (ast.FunctionDef, ast.ClassDef))}
+            defined[path.stem] = named | {
+                node.targets[0].id for node in tree.body if isinstance(node, ast.Assign)
+            }
+        for path, tree in trees().items():
+            for node in tree.body:
+                if isinstance(node, ast.ImportFrom):
+                    for part in node.names:
+                        self.assertIn(part.name, defined[node.module.split(".")[1]], (path.name, part.name))
+        while drawn:
+            free = [name for name, others in drawn.items() if not others & set(drawn)]
+            self.assertTrue(free, drawn)
+            for name in free:
+                drawn.pop(name)
+
+    def test_walks_are_not_kept(self):
+        """A walk stands behind an in, or is the first thing in a call that goes through it at once."""
+        walks = ("zip", "enumerate", "reversed", "range")
+        through = ("list", "tuple", "dict", "sorted", "sum", "any", "all", "enumerate", "zip", "min", "max")
+        for path, tree in trees().items():
+            allowed = set()
+            for node in ast.walk(tree):
+                if isinstance(node, (ast.For, ast.comprehension)):
+                    allowed.add(node.iter)
+                if isinstance(node, ast.Call) and isinstance(node.func, ast.Name) and node.func.id in through:
+                    allowed.update(node.args[:1])
+            for node in ast.walk(tree):
+                if isinstance(node, ast.Call) and isinstance(node.func, ast.Name) and node.func.id in walks:
+                    self.assertIn(node, allowed, (path.name, node.lineno))
+
 
 if __name__ == "__main__":
     unittest.main()
